@@ -1,0 +1,1 @@
+"""Bailiwick: a directory that answers as one tree."""

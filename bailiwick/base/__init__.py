@@ -1,0 +1,1 @@
+"""Words, texts, kinds and names."""

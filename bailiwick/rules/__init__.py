@@ -1,0 +1,1 @@
+"""Types, classes, schemas, and the judge of entries."""

@@ -1,0 +1,1 @@
+"""Trees of entries, their links, and what is done to them."""
