@@ -7,9 +7,9 @@ def _shown(value):
     A value can be of any size, and writing out a great one can fail itself.
     """
     if isinstance(value, str) and len(value) <= 100:
-        return repr(value)
+        return value
     if isinstance(value, int) and value.bit_length() <= 100:
-        return repr(value)
+        return str(value)
     return "a value of " + value.__class__.__name__
 
 
