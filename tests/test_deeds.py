@@ -447,6 +447,8 @@ class MoveTests(DoingTests):
         tree[15] = entry(13, "cn", "b", ("unit",))
         self.falls("deep", ("move", 11, 5, ("cn", "b"), False), tree)
         self.done(("move", 11, 4, ("cn", "b"), False), tree)
+        leaf = {**chain_tree(7), 10: entry(0, "cn", "b", ("unit",))}
+        self.assertEqual(level(self.done(("move", 10, 7, ("cn", "b"), False), leaf), 10), 8)
         self.falls("deep", ("move", 10, 8, ("cn", "b"), False), {**chain_tree(8), 10: entry(0, "cn", "b", ("unit",))})
 
     def test_many(self):

@@ -176,6 +176,17 @@ class FaultTests(Tests):
         self.assertIsNone(fault_of(frame, shape("b", ("f",), named=("age",))))
         self.assertEqual(fault_of(shape("t", named=()), shape("s", named=())), ("named", "s"))
 
+    def test_what_holds_stands_above_a_shape_beside_frames(self):
+        bare = {"named": (), "places": (), "must": ()}
+        rows = (Class("a", "frame"), Class("z", "frame"), shape("r", may=("mail",), named=("cn", "mail"), places=("group",)),
+                shape("s", ("a", "r", "z"), **bare, lets=("e",)), shape("t", ("a", "s", "z"), **bare), Class("e", "extra"))
+        schema = Schema(sample_types(), rows)
+        self.assertEqual((schema.naming_types("t"), schema.extras_of("t")), (("cn", "mail"), ("apart", "e")))
+        self.assertEqual([schema.can_stand("t", other) for other in ("group", "", "r")], [True, False, False])
+        self.assertIsNone(fault_of(*rows, shape("u", places=("r",))))
+        beneath = Schema(sample_types(), (*rows, shape("u", places=("r",))))
+        self.assertTrue(beneath.can_stand("u", "t"))
+
     def test_place(self):
         self.assertEqual(fault_of(shape("b", places=())), ("place", "b"))
         for place in ("x", "vip", "f", "apart"):
@@ -265,7 +276,8 @@ class SchemaTests(Tests):
     def test_equality(self):
         alike = Schema(sample_types()[::-1], sample_classes()[::-1])
         others = [Schema((), ()), Schema(sample_types(), ()), Schema(sample_types(), sample_classes()[:-1]),
-                  Schema(sample_types() + (Type("new", "text"),), sample_classes())]
+                  Schema(sample_types() + (Type("new", "text"),), sample_classes()),
+                  Schema(sample_types() + (Type("new", "text", single=True),), sample_classes())]
         self.equals_itself_alone(self.schema, alike, others)
         self.cannot_iterate(self.schema)
 
@@ -287,7 +299,8 @@ class SchemaTests(Tests):
         for name in ("alias", "group", "rule", "share"):
             self.assertEqual(self.schema.naming_types(name), ("label",))
             self.assertEqual(self.schema.extras_of(name), ("apart",))
-            self.assertEqual(classes[name].above, ())
+            self.assertEqual((classes[name].named, classes[name].above), (("label",), ()))
+            self.assertEqual(classes[name].places, ("", "alias", "group", "human", "rule", "share", "unit", "worker"))
             for other in ("", "unit", "human", "worker", "alias", "group", "rule", "share"):
                 self.assertTrue(self.schema.can_stand(name, other))
             self.assertFalse(self.schema.can_stand("human", name))

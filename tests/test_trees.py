@@ -177,7 +177,8 @@ class EntryOfTests(Tests):
         for place, values in {
             2: (("x", "a"), ("cn", " "), ("boss", "1"), ("age", "01"), ("cn", ""), ["cn", "a"], ("cn", "a", "a"), ("CN", "a")),
             3: ((), ["unit"], ("Unit",), ("unit", 1), "unit", ("",)),
-            4: ((("x", "a"),), (("cn", " "),), (("age", "+1"),), [("cn", "a")], (["cn", "a"],), (("cn", "a", "a"),), (("cn", 1),)),
+            4: ((("x", "a"),), (("cn", " "),), (("age", "+1"),), [("cn", "a")], (["cn", "a"],), (("cn", "a", "a"),), (("cn", 1),),
+                (("cn", "a"), ("cn", " ")), (("cn", " "), ("cn", "a")), (("cn", "a"), ("cn",)), (("cn", "a"), "cn")),
         }.items():
             for value in values:
                 self.refuses(InvalidTree, entry_of, *with_place(good, place, value))
@@ -250,7 +251,8 @@ class WayTests(Tests):
             10: ((20,), (20,)), 20: ((), ()), 30: ((), ()),
         })
         backward = {number: self.tree[number] for number in sorted(self.tree, reverse=True)}
-        self.assertEqual((children(backward, 0), beneath(backward, 0)), ((1, 5), (1, 2, 5, 10, 20, 30)))
+        for number in told:
+            self.assertEqual((children(backward, number), beneath(backward, number)), told[number])
 
     def test_does_stand_beneath(self):
         for number in self.tree:

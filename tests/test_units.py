@@ -404,7 +404,8 @@ class WishTests(UnitTests):
 
     def test_one_and_twenty_wishes(self):
         wish = ("change", BOB, ())
-        self.assertEqual(resolved_unit(self.schema, self.tree, (wish,) * 20), (("change", 20, ()),) * 20)
+        for many in (1, 2, 20):
+            self.assertEqual(resolved_unit(self.schema, self.tree, (wish,) * many), (("change", 20, ()),) * many)
         for wrong in ((), (wish,) * 21, [wish], wish, (REMOVE,), (wish, REMOVE)):
             self.refuses(InvalidDeed, resolved_unit, self.schema, self.tree, wrong)
 

@@ -35,9 +35,9 @@ def is_text(value):
 
 def is_word(value):
     """Whether the value is a word."""
-    if not are_signs(value, MOST_WORD) or value == "":
+    if not are_signs(value, MOST_WORD) or not value.isalnum():
         return False
-    return value.isalnum() and value == value.lower() and value[0].isalpha()
+    return value == value.lower() and value[0].isalpha()
 
 
 def need_word(value):

@@ -46,7 +46,8 @@ def _in_circle(draft):
     """The classes that would stand beneath themselves, or beneath one that does."""
     table = draft.table
     circles = [name for name in table if name in all_above(table, name)]
-    return [name for name in table if name in circles or any([up in circles for up in all_above(table, name)])]
+    # One of a circle stands beneath itself, so it is found here, too.
+    return [name for name in table if any([upper in circles for upper in all_above(table, name)])]
 
 
 def _too_deep(draft):

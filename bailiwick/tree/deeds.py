@@ -34,7 +34,7 @@ def first_word(value):
 
 def _is_put_or_drop(value):
     """Whether the value is a part that puts or drops a text, its first word left aside."""
-    return len(value) == 3 and is_pair(value[1:])
+    return is_pair(value[1:])
 
 
 def _is_clear(value):

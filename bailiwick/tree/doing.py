@@ -95,8 +95,8 @@ def _clear(schema, table, part):
 
 def _set(schema, table, part):
     """Puts texts in the place of all values of a type itself."""
-    _need_type(schema, part[1])
     keys = [_key_of(schema, part[1], text) for text in part[2]]
+    # Without texts, too, the type is asked here.
     _clear(schema, table, part)
     for key, text in zip(keys, part[2]):
         table.setdefault(key, text)

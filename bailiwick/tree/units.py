@@ -1,6 +1,5 @@
 """Units of deeds, which are done as a whole or not at all, and wishes, which tell entries by names."""
 
-from bailiwick.base.kinds import known_form
 from bailiwick.base.names import is_name, read_name
 from bailiwick.base.words import are_numbers
 from bailiwick.errors import InvalidDeed, InvalidOperation, ParseError, Refused
@@ -104,12 +103,12 @@ def _number_at(schema, tree, name, is_above):
 
 def _resolved_text(schema, tree, word, text):
     """The text of a value: for the text of a name in the place of a link, that of its number."""
-    if schema.kind_of(word) != "link" or known_form("link", text) is not None:
+    if schema.kind_of(word) != "link":
         return text
     try:
         name = read_name(text)
     except ParseError:
-        # Neither a number nor a name: the deed will fall by this text.
+        # A number, which is no text of a name, or neither: then the deed will fall by this text.
         return text
     return str(_number_at(schema, tree, name, False))
 
