@@ -3,9 +3,14 @@
 import copy
 import unittest
 
+from bailiwick.ask.indexes import Index
+from bailiwick.ask.pages import Kept
+from bailiwick.ask.search import Search
+from bailiwick.ask.watches import Watch
 from bailiwick.errors import InvalidNumber, InvalidText, InvalidWord, UnknownNumber
 from bailiwick.rules.schemas import Class, Schema
 from bailiwick.rules.types import Type
+from bailiwick.tree.directory import Directory
 
 KEPT = {InvalidText: "value", InvalidWord: "value", InvalidNumber: "value", UnknownNumber: "asked"}
 
@@ -27,6 +32,17 @@ def wrong_values():
         (("a", "b"),), [("a", "b")], (True,), (None,), ("",), ("a\n",), (10 ** 39,), {10 ** 39: ()}, {True: None},
         Type("a", "text"), Class("a", "frame"), Schema((), ()), (Type("a", "text"),), [Class("a", "frame")],
         InvalidWord("a"), (InvalidText("a"),), nested(8), [nested(7)], {"a": nested(7)}, (nested(7), nested(7)),
+        *wrong_objects(),
+    ]
+
+
+def wrong_objects():
+    """Objects of the package that keep something, alone and within other values."""
+    schema = Schema((), ())
+    index, watch = Index(schema, {}), Watch(schema, {}, Search(0))
+    return [
+        Directory(schema), Search(0), index, Kept(schema, {}, Search(0), (("label", "up"),)), watch,
+        (Search(0),), [index], {1: watch}, ("and", (index,)),
     ]
 
 
@@ -111,6 +127,10 @@ def repr_of(value):
         return ["Class", value.name, value.family, *shown_class(value)]
     if isinstance(value, Schema):
         return ["Schema", repr_of(value.types), repr_of(value.classes)]
+    if isinstance(value, (Directory, Index, Kept, Search, Watch)):
+        return [type(value).__name__, repr_of(vars(value))]
+    if type(value).__name__ == "Tables":
+        return ["Tables", repr_of(vars(value))]
     if isinstance(value, Exception):
         return [type(value).__name__, repr_of(vars(value))]
     return [type(value).__name__, repr(value)]

@@ -95,7 +95,6 @@ class DoUnitTests(UnitTests):
         self.assertEqual(behind[8][3][0], ("boss", "7", "7"))
         self.done(("change", 10, (("put", "pal", "8"),)), human(8, 1, "b"))
         self.falls(2, "link", 7, human(7, 1, "a", ("boss", "8")), human(9, 1, "b"))
-        self.falls(1, "link", 10, ("change", 10, (("put", "pal", "8"),)))if False else None
         self.done(human(7, 1, "a", ("boss", "8")), ("change", 7, (("drop", "boss", "8"),)))
         self.done(human(7, 1, "a", ("boss", "8")), ("remove", 7))
         behind = self.done(human(7, 1, "a", ("boss", "8")), human(8, 1, "b"), ("remove", 8))

@@ -71,6 +71,11 @@ def is_form(kind, value):
     return is_text(value) and known_form(kind, value) == value
 
 
+def order_key(kind, form):
+    """What a known form of a kind that has an order is ordered by."""
+    return int(form) if kind == "number" else form
+
+
 def is_less(kind, one, other):
     """Whether a form is less than another one of a kind that has an order."""
     _need_kind(kind)
@@ -79,9 +84,7 @@ def is_less(kind, one, other):
     for form in (one, other):
         if not is_form(kind, form):
             raise InvalidOperation(form)
-    if kind == "number":
-        return int(one) < int(other)
-    return one < other
+    return order_key(kind, one) < order_key(kind, other)
 
 
 def _is_piece(value):
@@ -129,8 +132,9 @@ def pattern_form(kind, pattern):
     return pattern if kind == "exact" else None
 
 
-def _can_be_parted(form, first, middles, last):
-    """Whether a form can be parted into the pieces, with any signs between them."""
+def can_be_parted(form, pieces):
+    """Whether a known form can be parted into the pieces of a pattern's form, with any signs between them."""
+    first, middles, last = pieces
     at = len(first)
     end = len(form) - len(last)
     if at > end or not form.startswith(first) or not form.endswith(last):
@@ -149,7 +153,4 @@ def does_match(kind, pattern, form):
     pieces = pattern_form(kind, pattern)
     if not is_form(kind, form):
         raise InvalidOperation(form)
-    if pieces is None:
-        return False
-    first, middles, last = pieces
-    return _can_be_parted(form, first, middles, last)
+    return pieces is not None and can_be_parted(form, pieces)

@@ -64,3 +64,10 @@ def are_numbers(value):
 def is_pair(value):
     """Whether the value is a pair of a word and a text."""
     return isinstance(value, tuple) and len(value) == 2 and is_word(value[0]) and is_text(value[1])
+
+
+def first_word(value):
+    """The word with which a tuple begins; the empty string if the value is no such tuple."""
+    if not isinstance(value, tuple) or value == () or not is_word(value[0]):
+        return ""
+    return value[0]

@@ -1,6 +1,6 @@
 """Deeds and units: what they are, and how single deeds are done."""
 
-from bailiwick.base.words import are_words, is_number, is_pair, is_place, is_text, is_whole, is_word
+from bailiwick.base.words import are_words, first_word, is_number, is_pair, is_place, is_text, is_whole, is_word
 from bailiwick.errors import InvalidDeed, Refused
 from bailiwick.tree.doing import known_touched, tried
 from bailiwick.tree.links import loose_of
@@ -23,13 +23,6 @@ def _is_row(value):
 def _are_names(value):
     """Whether the value is a tuple of words, not too many."""
     return _is_row(value) and are_words(value)
-
-
-def first_word(value):
-    """The word with which a tuple begins; the empty string if the value is no such tuple."""
-    if not isinstance(value, tuple) or value == () or not is_word(value[0]):
-        return ""
-    return value[0]
 
 
 def _is_put_or_drop(value):

@@ -20,7 +20,7 @@ def _is_value(value):
     return is_word(value[0]) and is_text(value[1]) and is_text(value[2])
 
 
-def _are_values(value):
+def are_values(value):
     """Whether the value is a tuple of values as an entry has them."""
     if not isinstance(value, tuple) or len(value) > MAX_VALUES:
         return False
@@ -37,7 +37,7 @@ def is_plain_entry(value):
     above, naming, classes, values = value
     if not is_place(above) or not is_pair(naming):
         return False
-    return are_ascending_words(classes) and len(classes) > 0 and _are_values(values)
+    return are_ascending_words(classes) and len(classes) > 0 and are_values(values)
 
 
 def _are_plain_entries(value):
@@ -123,6 +123,16 @@ def asked_form(schema, word, text):
     """The form of a text of a type; None if the schema lacks the type or the text does not fit."""
     kind = schema.kind_of(word)
     return None if kind is None else known_form(kind, text)
+
+
+def own_forms(entry, word):
+    """The forms of the values that an entry has of a type itself, ascending."""
+    return [form for each, form, text in entry[3] if each == word]
+
+
+def is_of_class(schema, entry, name):
+    """Whether a class of the entry is this class of the schema, or stands beneath it."""
+    return any([schema.is_beneath(own, name) for own in entry[2]])
 
 
 def links_of(schema, entry):

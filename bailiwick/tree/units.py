@@ -1,10 +1,10 @@
 """Units of deeds, which are done as a whole or not at all, and wishes, which tell entries by names."""
 
 from bailiwick.base.names import is_name, read_name
-from bailiwick.base.words import are_numbers
+from bailiwick.base.words import are_numbers, first_word
 from bailiwick.errors import InvalidDeed, InvalidOperation, ParseError, Refused
 from bailiwick.rules.judge import known_faults
-from bailiwick.tree.deeds import first_word, is_deed, is_unit
+from bailiwick.tree.deeds import is_deed, is_unit
 from bailiwick.tree.doing import known_touched, tried
 from bailiwick.tree.links import loose_of
 from bailiwick.tree.trees import beneath_numbers, known_number, need_number, need_plain_tree, need_tree, upward_numbers
@@ -32,8 +32,8 @@ def _fall_behind(schema, tree, unit, numbers):
     return None
 
 
-def _outcome(schema, tree, unit, used):
-    """The pair of what is told of a unit, and the tuple of the touched entries that are there behind it."""
+def outcome_of(schema, tree, unit, used):
+    """The pair of what is told of a known unit, and the tuple of the touched entries that are there behind it."""
     marks = {}
     for at, deed in enumerate(unit):
         if deed[0] == "add" and deed[1] in used:
@@ -49,7 +49,7 @@ def _outcome(schema, tree, unit, used):
     return (("done", tree) if fall is None else fall), there
 
 
-def _need_unit(unit):
+def need_unit(unit):
     """Refuses what is no unit."""
     if not is_unit(unit):
         raise InvalidDeed(unit)
@@ -58,18 +58,18 @@ def _need_unit(unit):
 def do_unit(schema, tree, unit, *, used=()):
     """Does a unit: tells the tree behind it, or at which deed, by which code and at which number it falls."""
     need_tree(schema, tree)
-    _need_unit(unit)
+    need_unit(unit)
     if not are_numbers(used):
         raise InvalidOperation(used)
-    told, _ = _outcome(schema, tree, unit, used)
+    told, _ = outcome_of(schema, tree, unit, used)
     return told
 
 
 def unit_touched(schema, tree, unit):
     """The numbers of the touched entries that are there behind a unit that is done, ascending."""
     need_tree(schema, tree)
-    _need_unit(unit)
-    told, there = _outcome(schema, tree, unit, ())
+    need_unit(unit)
+    told, there = outcome_of(schema, tree, unit, ())
     if told[0] == "fallen":
         raise Refused(told[2])
     return there

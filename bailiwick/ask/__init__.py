@@ -1,0 +1,1 @@
+"""Filters, indexes, searches, and what is told of them again and again."""

@@ -1,0 +1,1 @@
+"""Areas, and the shares and groups that hang on them."""
