@@ -5,6 +5,7 @@ import random
 from bailiwick.errors import InvalidSchema, InvalidTree, UnknownNumber
 from bailiwick.place.areas import area_of, areas_over, in_area
 from bailiwick.rules.schemas import Schema
+from bailiwick.tree.deeds import do_deed
 from bailiwick.tree.trees import does_stand_beneath, level
 from tests.makers import asking_schema, some_tree
 from tests.samples import Tests, entry, is_empty_dict, is_schema, sample_schema, wrong_values
@@ -172,6 +173,18 @@ class AreaTests(Tests):
         backward = {number: tree[number] for number in sorted(tree, reverse=True)}
         self.assertEqual(areas_over(self.schema, backward, 9), (40, 60, 70))
         self.assertEqual(area_of(self.schema, backward, 60), (3, 4, 5, 9, 60))
+
+    def test_moves(self):
+        # [0.18]: a move carries everything beneath along, and every link to it.
+        tree = self.tree("share", ("without", 3))
+        word, tree = do_deed(self.schema, tree, ("move", 50, 7, ("label", "s"), True))
+        self.assertEqual(area_of(self.schema, tree, 50), (7, 8, 50))
+        word, tree = do_deed(self.schema, tree, ("move", 2, 7, ("cn", "b"), True))
+        self.assertEqual(area_of(self.schema, tree, 50), (2, 5, 7, 8, 9, 50))
+        word, tree = do_deed(self.schema, tree, ("move", 3, 8, ("cn", "new"), False))
+        self.assertEqual(area_of(self.schema, tree, 50), (2, 5, 7, 8, 9, 50))
+        self.assertEqual(area_of(self.schema, do_deed(self.schema, tree, ("change", 50, (("clear", "without"),)))[1], 50),
+                         (2, 3, 4, 5, 7, 8, 9, 50))
 
     def test_many_trees(self):
         schema = asking_schema()

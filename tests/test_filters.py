@@ -56,6 +56,7 @@ def wrong_filters():
     found += [("pieces", "cn", *each) for each in (
         ("", (), ""), ("a" * 101, (), ""), ("a", ("",), ""), ("a", ["b"], ""), ("a", None, ""), ("a", ("b",) * 9, ""),
         ("a", (1,), ""), (None, ("b",), ""), ("a", (), None), (True, (), "a"), ("a", "b", ""), ("a\n", (), ""))]
+    found += [(first,) for first in ("pieces", "is", "from", "to", "class", "not", "and", "or")] + [("pieces", "cn")]
     found += [("has",), ("has", "cn", "a"), ("is", "cn"), ("is", "cn", "a", "b"), ("pieces", "cn", ("a", (), "")),
               ("pieces", "cn", "a", ()), ("pieces", "cn", "a", (), "", ""), ("within",), ("within", 1, 2), ("class",)]
     found += [["has", "cn"], ("Has", "cn"), ("nor", ()), ("has ", "cn"), (("has", "cn"),), "(cn=*)"]

@@ -261,6 +261,21 @@ class LanguageTests(unittest.TestCase):
                 for each in node.decorator_list:
                     self.assertIn(each.id, ("property", "classmethod", "staticmethod"))
 
+    def test_properties_have_names_of_their_own(self):
+        properties, methods, attributes = set(), set(), set()
+        for path, tree in modules():
+            for node in ast.walk(tree):
+                if isinstance(node, ast.ClassDef):
+                    for each in functions(node):
+                        is_property = any(getattr(mark, "id", "") == "property" for mark in each.decorator_list)
+                        (properties if is_property else methods).add(each.name)
+                if isinstance(node, ast.Attribute) and isinstance(node.ctx, ast.Store):
+                    attributes.add(node.attr)
+        self.assertEqual(properties & (methods | attributes | METHODS_OF_VALUES), set())
+        self.assertEqual(methods & attributes, set())
+        held = {name for value in ("", 0, [], {}, (), set(), b"") for name in dir(value) if not name.startswith("__")}
+        self.assertEqual((properties | methods | attributes) & held, {"index"})
+
     def test_identity(self):
         for path, tree in modules():
             for node in ast.walk(tree):

@@ -6,6 +6,7 @@ from bailiwick.ask.filters import filter_text, read_filter, value_at
 from bailiwick.errors import InvalidFilter, InvalidSchema, InvalidTree, ParseError, UnknownNumber
 from bailiwick.place.groups import chosen, does_have, groups_of, inner, members
 from bailiwick.rules.schemas import Schema
+from bailiwick.tree.deeds import do_deed
 from bailiwick.tree.links import removed
 from bailiwick.tree.trees import does_stand_beneath
 from tests.makers import asking_schema, some_item, some_tree
@@ -187,6 +188,19 @@ class GroupTests(Tests):
         self.has(tree, {50: [10, 20]})
         tree[10] = entry(2, "cn", "ann", ("human",))
         self.has(tree, {50: [20]})
+
+    def test_moves(self):
+        # [0.18]: a move changes no number and no link, so groups that name members by links keep them.
+        tree = self.tree(g50=linked("g", 10, 60), g60=linked("h", 30, 2), g70=group("i", ("chosen", "(:human)"), ("ground", 2)))
+        told = {50: [2, 10, 30], 60: [2, 30], 70: [10, 20, 30]}
+        self.has(tree, told)
+        for deed in (("move", 2, 5, ("cn", "zwei"), False), ("move", 60, 50, ("label", "x"), True), ("move", 50, 2, ("label", "y"), False)):
+            word, tree = do_deed(self.schema, tree, deed)
+            self.assertEqual(word, "done")
+            self.has(tree, told)
+        # What a filter asks of the place is told anew.
+        word, tree = do_deed(self.schema, tree, ("move", 30, 1, ("cn", "cy"), True))
+        self.has(tree, {**told, 70: [10, 20]})
 
     def test_does_have(self):
         tree = self.tree(g50=linked("g", 1, 5))

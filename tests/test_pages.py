@@ -299,6 +299,19 @@ class KeptTests(Tests):
         kept = Kept(self.schema, self.tree, Search(0), UP)
         self.takes(kept, {}, 1, [], [])
 
+    def test_a_row_that_is_sorted_anew(self):
+        # [0.23]: sorted anew at each call, an entry would be told twice and another one never; a kept row does neither.
+        search, keys = Search(0), (("mark", "up"),)
+        tree = {at: entry(0, "cn", f"n{at}", ("unit",), ("mark", str(at))) for at in (1, 2, 3)}
+        kept = Kept(self.schema, tree, search, keys)
+        anew = [sorted_numbers(self.schema, tree, search, keys)[1][0]]
+        told = [row[0] for row in kept.next(tree, 1)]
+        tree[1] = entry(0, "cn", "n1", ("unit",), ("mark", "9"))
+        for at in (1, 2):
+            anew.append(sorted_numbers(self.schema, tree, search, keys)[1][at])
+            told += [row[0] for row in kept.next(tree, 1)]
+        self.assertEqual((anew, told), ([1, 3, 1], [1, 2, 3]))
+
     def test_the_base_that_goes(self):
         kept = Kept(self.schema, self.tree, Search(2), UP)
         self.assertEqual(kept.left, (10, 20, 30, 2))

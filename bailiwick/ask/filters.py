@@ -77,7 +77,7 @@ def is_filter(value):
         many += 1
         parts = _parts_of(part)
         # A value with too many parts is left as soon as this shows: it can have very many.
-        if parts is None or deep > MAX_DEEP or many + len(ahead) + len(parts) > MAX_PARTS:
+        if parts is None or deep > MAX_DEEP or many > MAX_PARTS:
             return False
         ahead.extend([(each, deep + 1) for each in parts])
     return True

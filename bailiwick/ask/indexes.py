@@ -18,10 +18,8 @@ def _grams_of(signs):
 def _grams_of_pattern(pieces):
     """The grams of a pattern's form."""
     first, middles, last = pieces
-    grams = _grams_of(MARK + first) if first != "" else []
-    for middle in middles:
-        grams.extend(_grams_of(middle))
-    return grams + (_grams_of(last + MARK) if last != "" else [])
+    # A first or last piece without signs has no grams, as its mark alone is too short.
+    return [gram for signs in (MARK + first, *middles, last + MARK) for gram in _grams_of(signs)]
 
 
 def _first_at(rows, mark):
@@ -151,7 +149,6 @@ class Index:
 
     def ordered(self, word):
         """The pairs (form, number) of all values of just this type, in the order of its kind."""
-        need_word(word)
         if self._schema.kind_of(word) not in ORDERED:
             raise InvalidOperation(word)
         return tuple([(form, number) for key, number, form in self._tables.all_rows(word)])

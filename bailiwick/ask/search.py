@@ -149,9 +149,11 @@ def _led_on(schema, tree, numbers, is_deep):
             continue
         met[number] = True
         end = _known_end(schema, tree, number)
-        if end is not None:
-            found[end] = True
-        if is_deep and end is not None and end != number:
+        if end is None:
+            continue
+        found[end] = True
+        # What stands beneath an entry of the scope that is no alias is in the scope itself.
+        if is_deep and end != number:
             ahead.extend(beneath_numbers(tree, end))
     return sorted(found)
 
@@ -209,5 +211,6 @@ def find(schema, tree, search):
     need_tree(schema, tree)
     _need_search(search)
     word, numbers = known_found(schema, tree, search)
-    told = numbers if search.limit is None else numbers[:search.limit]
+    # Without a limit this leaves none out.
+    told = numbers[:search.limit]
     return word, known_rows(schema, tree, search, told), len(told) < len(numbers)

@@ -72,6 +72,11 @@ def _known_members(schema, tree, group):
     return sorted({number for each in groups for number in _own_members(schema, tree, each)})
 
 
+def _leads_to(schema, tree, group, groups):
+    """Whether a known group is one of some groups, or links lead from it to one of them, and so on."""
+    return group in groups or any([each in groups for each in _known_inner(schema, tree, group)])
+
+
 def members(schema, tree, group):
     """The numbers of the members of a group, ascending."""
     need_tree(schema, tree)
@@ -98,7 +103,8 @@ def groups_of(schema, tree, number):
     need_tree(schema, tree)
     need_number(tree, number)
     groups = [each for each in sorted(tree) if _is_group(schema, tree, each)]
-    return tuple([group for group in groups if number in _known_members(schema, tree, group)])
+    having = [group for group in groups if number in _own_members(schema, tree, group)]
+    return tuple([group for group in groups if _leads_to(schema, tree, group, having)])
 
 
 def inner(schema, tree, group):

@@ -3,7 +3,6 @@
 from bailiwick.base.words import is_whole
 from bailiwick.errors import InvalidNumber, InvalidTree, Refused, TooMany
 from bailiwick.rules.judge import is_right
-from bailiwick.tree.trees import need_schema
 from bailiwick.tree.units import need_unit, outcome_of
 
 MAX_PLACES = 1000
@@ -16,8 +15,8 @@ class Directory:
     """
 
     def __init__(self, schema, tree=None):
-        need_schema(schema)
         first = {} if tree is None else tree
+        # This refuses what is no schema, too.
         if not is_right(schema, first):
             raise InvalidTree(tree)
         self._schema = schema
