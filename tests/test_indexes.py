@@ -225,6 +225,13 @@ class IndexTests(Indexed):
                     value = "true" if number in told[0] else "false" if number in told[1] else "unknown"
                     self.assertEqual(plain_value(schema, tree, asked, number), value)
 
+    def test_the_least_and_the_greatest_number(self):
+        tree = {at: entry(0, "cn", f"n{at}", ("unit",), ("mark", "5")) for at in (1, 10 ** 12)}
+        index = Index(self.schema, tree)
+        self.tells(index, tree)
+        for asked in (("from", "mark", "5"), ("to", "mark", "5"), ("from", "mark", "6"), ("to", "mark", "4")):
+            self.answers(index, tree, asked)
+
     def test_an_entry_with_many_values(self):
         values = [("mark", str(at)) for at in range(-25, 25)] + [("mail", f"m{at}") for at in range(9)]
         tree = {at: entry(0, "cn", f"n{at}", ("human",), *values) for at in range(1, 4)}

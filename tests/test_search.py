@@ -207,6 +207,7 @@ class ScopeTests(Tests):
         for types, values in told.items():
             row = row_of(self.schema, self.tree, 20, types)
             self.assertEqual([value[:2] for value in row[3]], values)
+            self.assertIsInstance(row[3], tuple)
             self.assertEqual(row[:3], (20, (("cn", "Bob  B"), ("cn", "Ann"), ("cn", "two"), ("cn", "one")), ("human", "vip")))
             self.assertEqual(find(self.schema, self.tree, Search(20, types=types))[1], (row,))
 
