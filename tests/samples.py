@@ -127,11 +127,7 @@ def repr_of(value):
         return ["Class", value.name, value.family, *shown_class(value)]
     if isinstance(value, Schema):
         return ["Schema", repr_of(value.types), repr_of(value.classes)]
-    if isinstance(value, (Directory, Index, Kept, Search, Watch)):
-        return [type(value).__name__, repr_of(vars(value))]
-    if type(value).__name__ == "Tables":
-        return ["Tables", repr_of(vars(value))]
-    if isinstance(value, Exception):
+    if type(value).__module__.startswith("bailiwick."):
         return [type(value).__name__, repr_of(vars(value))]
     return [type(value).__name__, repr(value)]
 

@@ -79,6 +79,22 @@ INTERFACE = {
         "members": "(schema, tree, group)", "does_have": "(schema, tree, group, value)", "chosen": "(schema, tree, group)",
         "groups_of": "(schema, tree, number)", "inner": "(schema, tree, group)",
     },
+    "bailiwick.place.rights": {
+        "is_granted": "(schema, tree, who, right, number, word=None)", "deciding": "(schema, tree, who, right, number, word=None)",
+        "does_hold": "(schema, tree, rule, who, number)", "granted_types": "(schema, tree, who, right, number)",
+    },
+    "bailiwick.place.views": {
+        "is_seen": "(schema, tree, who, number)", "view": "(schema, tree, who)", "needed": "(schema, tree, deed)",
+        "done_by": "(schema, tree, who, unit, *, used=())",
+    },
+    "bailiwick.text.lines": {
+        "tree_text": "(schema, tree)", "read_tree": "(schema, text)", "read_tree_lax": "(schema, text)", "units_text": "(units)",
+        "read_units": "(text)", "read_units_lax": "(text)",
+    },
+    "bailiwick.far.holdings": {
+        "is_plan": "(schema, tree, value)", "cut_tree": "(schema, tree, plan)", "root_of": "(schema, tree, plan, number)",
+    },
+    "bailiwick.far.guides": {"Guide": "(servers)", "is_trace": "(schema, tree, plan, value)"},
 }
 CONSTANTS = {
     "bailiwick.tree.directory": {"MAX_PLACES": 1000},
@@ -89,6 +105,9 @@ CONSTANTS = {
         "SCOPES": ("base", "beneath", "one", "tree"), "ALIASES": ("always", "base", "never", "scope"),
     },
     "bailiwick.ask.pages": {"MAX_COUNT": 60, "MAX_KEYS": 3},
+    "bailiwick.place.rights": {"RIGHTS": ("add", "move", "remove", "see", "write")},
+    "bailiwick.text.lines": {"WIDTH": 60},
+    "bailiwick.far.holdings": {"MAX_SERVERS": 20},
 }
 METHODS = {
     ("bailiwick.rules.types", "Type"): ("name", "kind", "above", "is_single", "__eq__"),
@@ -105,9 +124,12 @@ METHODS = {
         "base", "scope", "where", "types", "aliases", "limit", "at", "without_limit", "__eq__"),
     ("bailiwick.ask.pages", "Kept"): ("word", "left", "next"),
     ("bailiwick.ask.watches", "Watch"): ("search", "word", "told", "follow", "state", "twin"),
+    ("bailiwick.far.holdings", "Server"): ("name", "above", "roots", "entries", "cuts", "glimpses", "ask"),
+    ("bailiwick.far.guides", "Guide"): ("names", "ask", "place_of"),
 }
 # How many of the members of each class are properties; these stand first.
-PROPERTIES = {"Type": 4, "Class": 8, "Schema": 2, "Directory": 4, "Index": 1, "Search": 6, "Kept": 2, "Watch": 3}
+PROPERTIES = {"Type": 4, "Class": 8, "Schema": 2, "Directory": 4, "Index": 1, "Search": 6, "Kept": 2, "Watch": 3,
+              "Server": 3, "Guide": 1}
 BUILTINS = set(
     "len range enumerate zip min max sum abs sorted reversed int str bool list tuple dict set isinstance ord repr any all divmod "
     "Exception ValueError TypeError KeyError IndexError LookupError ArithmeticError OverflowError property classmethod "

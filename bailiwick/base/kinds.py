@@ -1,6 +1,7 @@
 """The kinds of types, the forms of their texts, and patterns of forms."""
 
-from bailiwick.base.words import MOST_NUMBER, is_text
+from bailiwick.base.numerals import are_plain_digits, read_number
+from bailiwick.base.words import is_text
 from bailiwick.errors import InvalidOperation, InvalidText, InvalidWord
 
 KINDS = ("exact", "flag", "link", "number", "text")
@@ -16,20 +17,10 @@ def _need_kind(kind):
         raise InvalidWord(kind)
 
 
-def _are_plain_digits(signs):
-    """Whether the signs are digits without needless zeros."""
-    return signs.isdigit() and (signs == "0" or signs[0] != "0")
-
-
 def _fits_number(text):
     """Whether a text is that of an integer within the bounds."""
     digits = text[1:] if text[0] == "-" else text
-    return _are_plain_digits(digits) and text != "-0" and int(digits) <= MOST_VALUE
-
-
-def _fits_link(text):
-    """Whether a text is that of a number of an entry."""
-    return _are_plain_digits(text) and 1 <= int(text) <= MOST_NUMBER
+    return are_plain_digits(digits) and text != "-0" and int(digits) <= MOST_VALUE
 
 
 def _fits_exactly(kind, text):
@@ -39,7 +30,7 @@ def _fits_exactly(kind, text):
     if kind == "flag":
         return text in ("yes", "no")
     if kind == "link":
-        return _fits_link(text)
+        return read_number(text) is not None
     return kind == "exact"
 
 

@@ -1,6 +1,6 @@
 """The names of entries, and the texts of names."""
 
-from bailiwick.base.words import MOST_TEXT, are_signs, is_pair, is_word
+from bailiwick.base.words import MOST_TEXT, are_pairs, are_signs, is_word
 from bailiwick.errors import InvalidName, InvalidText, ParseError
 
 MOST_LEVELS = 8
@@ -10,9 +10,7 @@ SPECIAL = ",=+\"\\"
 
 def is_name(value):
     """Whether the value is a name."""
-    if not isinstance(value, tuple) or len(value) > MOST_LEVELS:
-        return False
-    return all([is_pair(pair) for pair in value])
+    return are_pairs(value) and len(value) <= MOST_LEVELS
 
 
 def _text_of_value(text):

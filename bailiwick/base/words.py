@@ -66,6 +66,11 @@ def is_pair(value):
     return isinstance(value, tuple) and len(value) == 2 and is_word(value[0]) and is_text(value[1])
 
 
+def are_pairs(value):
+    """Whether the value is a tuple of pairs, in any order."""
+    return isinstance(value, tuple) and all([is_pair(each) for each in value])
+
+
 def first_word(value):
     """The word with which a tuple begins; the empty string if the value is no such tuple."""
     if not isinstance(value, tuple) or value == () or not is_word(value[0]):

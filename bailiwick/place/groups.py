@@ -6,7 +6,7 @@ from bailiwick.errors import InvalidFilter, ParseError, UnknownNumber
 from bailiwick.tree.trees import is_of_class, need_number, need_tree, own_forms, upward_numbers
 
 
-def _is_group(schema, tree, number):
+def is_group(schema, tree, number):
     """Whether an entry is a group."""
     return is_of_class(schema, tree[number], "group")
 
@@ -14,7 +14,7 @@ def _is_group(schema, tree, number):
 def _need_group(schema, tree, group):
     """Refuses what is no number of a group."""
     need_number(tree, group)
-    if not _is_group(schema, tree, group):
+    if not is_group(schema, tree, group):
         raise UnknownNumber(group)
 
 
@@ -35,7 +35,7 @@ def _known_chosen(schema, tree, group):
     for number in sorted(tree):
         way = upward_numbers(tree, number)
         is_there = grounds == [] or any([ground in way for ground in grounds])
-        if not is_there or _is_group(schema, tree, number):
+        if not is_there or is_group(schema, tree, number):
             continue
         if any([known_value(schema, tree, each, number) == "true" for each in asked]):
             found.append(number)
@@ -49,7 +49,7 @@ def _linked(tree, group):
 
 def _own_members(schema, tree, group):
     """The numbers of the members that a known group has by itself, not by other groups."""
-    linked = [number for number in _linked(tree, group) if not _is_group(schema, tree, number)]
+    linked = [number for number in _linked(tree, group) if not is_group(schema, tree, number)]
     return linked + _known_chosen(schema, tree, group)
 
 
@@ -60,13 +60,13 @@ def _known_inner(schema, tree, group):
     while ahead != []:
         linked = _linked(tree, ahead.pop())
         for number in linked:
-            if _is_group(schema, tree, number) and number not in found:
+            if is_group(schema, tree, number) and number not in found:
                 found[number] = True
                 ahead.append(number)
     return sorted(found)
 
 
-def _known_members(schema, tree, group):
+def known_members(schema, tree, group):
     """The numbers of the members of a known group, ascending."""
     groups = [group, *_known_inner(schema, tree, group)]
     return sorted({number for each in groups for number in _own_members(schema, tree, each)})
@@ -81,14 +81,14 @@ def members(schema, tree, group):
     """The numbers of the members of a group, ascending."""
     need_tree(schema, tree)
     _need_group(schema, tree, group)
-    return tuple(_known_members(schema, tree, group))
+    return tuple(known_members(schema, tree, group))
 
 
 def does_have(schema, tree, group, value):
     """Whether the value is the number of a member of a group."""
     need_tree(schema, tree)
     _need_group(schema, tree, group)
-    return is_number(value) and value in _known_members(schema, tree, group)
+    return is_number(value) and value in known_members(schema, tree, group)
 
 
 def chosen(schema, tree, group):
@@ -102,7 +102,7 @@ def groups_of(schema, tree, number):
     """The numbers of the groups of which an entry is a member, ascending."""
     need_tree(schema, tree)
     need_number(tree, number)
-    groups = [each for each in sorted(tree) if _is_group(schema, tree, each)]
+    groups = [each for each in sorted(tree) if is_group(schema, tree, each)]
     having = [group for group in groups if number in _own_members(schema, tree, group)]
     return tuple([group for group in groups if _leads_to(schema, tree, group, having)])
 

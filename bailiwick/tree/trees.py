@@ -3,7 +3,7 @@
 from bailiwick.base.kinds import known_form
 from bailiwick.base.names import is_name
 from bailiwick.base.words import (
-    are_ascending_words, are_words, is_number, is_pair, is_place, is_text, is_word, need_word,
+    are_ascending_words, are_pairs, are_words, is_number, is_pair, is_place, is_text, is_word, need_word,
 )
 from bailiwick.errors import InvalidName, InvalidNumber, InvalidSchema, InvalidTree, UnknownNumber
 from bailiwick.rules.schemas import Schema
@@ -40,7 +40,7 @@ def is_plain_entry(value):
     return are_ascending_words(classes) and len(classes) > 0 and are_values(values)
 
 
-def _are_plain_entries(value):
+def are_plain_entries(value):
     """Whether the value is a dict from numbers to such entries, not too many."""
     if not isinstance(value, dict) or len(value) > MAX_ENTRIES:
         return False
@@ -77,7 +77,7 @@ def _have_unlike_names(tree):
 
 def _is_plain_tree(value):
     """Whether the value is a tree by what can be told without a schema."""
-    if not _are_plain_entries(value):
+    if not are_plain_entries(value):
         return False
     if not all([value[number][0] == 0 or value[number][0] in value for number in value]):
         return False
@@ -154,7 +154,7 @@ def _is_known_entry(schema, value):
 
 def are_known_entries(schema, value):
     """Whether the value is a dict from numbers to entries, not too many, by what is known to be a schema."""
-    return _are_plain_entries(value) and all([_has_known_values(schema, value[number]) for number in value])
+    return are_plain_entries(value) and all([_has_known_values(schema, value[number]) for number in value])
 
 
 def is_known_tree(schema, value):
@@ -186,17 +186,12 @@ def names_row(names):
     return tuple(sorted({name: True for name in names}))
 
 
-def _are_pairs(value):
-    """Whether the value is a tuple of pairs, in any order."""
-    return isinstance(value, tuple) and all([is_pair(each) for each in value])
-
-
 def entry_of(schema, above, pair, classes, pairs):
     """The entry with such a naming, such classes and such values."""
     need_schema(schema)
     if not is_place(above):
         raise InvalidNumber(above)
-    if not is_pair(pair) or not are_words(classes) or not _are_pairs(pairs):
+    if not is_pair(pair) or not are_words(classes) or not are_pairs(pairs):
         raise InvalidTree((pair, classes, pairs))
     table = {}
     for word, text in pairs:

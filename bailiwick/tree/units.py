@@ -23,30 +23,54 @@ def _first_code(schema, tree, number):
     return None
 
 
-def _fall_behind(schema, tree, unit, numbers):
-    """How a unit falls behind its last deed by the touched entries, or None."""
-    for number in numbers:
-        code = _first_code(schema, tree, number)
+class Work:
+    """A unit in the doing: the tree behind the deeds so far, and the entries that they touched."""
+
+    def __init__(self, schema, tree, used):
+        self._schema = schema
+        self._tree = tree
+        self._used = used
+        self._marks = {}
+
+    def now(self):
+        """The tree behind the deeds so far."""
+        return self._tree
+
+    def step(self, deed):
+        """Does a deed; returns the code with which it falls, or None."""
+        if deed[0] == "add" and deed[1] in self._used:
+            return "used"
+        behind, code = tried(self._schema, self._tree, deed)
         if code is not None:
-            return ("fallen", len(unit), code, number)
-    return None
+            return code
+        for number in known_touched(self._schema, self._tree, deed):
+            self._marks[number] = True
+        self._tree = behind
+        return None
+
+    def touched_now(self):
+        """The numbers of the touched entries that are there, ascending."""
+        return tuple([number for number in sorted(self._marks) if number in self._tree])
+
+    def fault(self):
+        """The pair of the code and the number of the first touched entry with which something is wrong, or None."""
+        for number in self.touched_now():
+            code = _first_code(self._schema, self._tree, number)
+            if code is not None:
+                return code, number
+        return None
 
 
 def outcome_of(schema, tree, unit, used):
     """The pair of what is told of a known unit, and the tuple of the touched entries that are there behind it."""
-    marks = {}
+    work = Work(schema, tree, used)
     for at, deed in enumerate(unit):
-        if deed[0] == "add" and deed[1] in used:
-            return ("fallen", at, "used", deed[1]), ()
-        behind, code = tried(schema, tree, deed)
+        code = work.step(deed)
         if code is not None:
             return ("fallen", at, code, deed[1]), ()
-        for number in known_touched(schema, tree, deed):
-            marks[number] = True
-        tree = behind
-    there = tuple([number for number in sorted(marks) if number in tree])
-    fall = _fall_behind(schema, tree, unit, there)
-    return (("done", tree) if fall is None else fall), there
+    fault = work.fault()
+    told = ("done", work.now()) if fault is None else ("fallen", len(unit), fault[0], fault[1])
+    return told, work.touched_now()
 
 
 def need_unit(unit):

@@ -1,0 +1,1 @@
+"""Servers that hold parts of a tree, and guides that ask them."""

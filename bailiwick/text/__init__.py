@@ -1,0 +1,1 @@
+"""Texts of trees and units, line by line, and a shell."""
