@@ -7,9 +7,15 @@ from bailiwick.ask.indexes import Index
 from bailiwick.ask.pages import Kept
 from bailiwick.ask.search import Search
 from bailiwick.ask.watches import Watch
+from bailiwick.copy.copies import Copy
+from bailiwick.copy.rows import Row
 from bailiwick.errors import InvalidNumber, InvalidText, InvalidWord, UnknownNumber
+from bailiwick.far.guides import Guide
+from bailiwick.far.holdings import cut_tree
+from bailiwick.many.writers import Writer
 from bailiwick.rules.schemas import Class, Schema
 from bailiwick.rules.types import Type
+from bailiwick.text.shell import Shell
 from bailiwick.tree.directory import Directory
 
 KEPT = {InvalidText: "value", InvalidWord: "value", InvalidNumber: "value", UnknownNumber: "asked"}
@@ -42,8 +48,15 @@ def wrong_objects():
     index, watch = Index(schema, {}), Watch(schema, {}, Search(0))
     return [
         Directory(schema), Search(0), index, Kept(schema, {}, Search(0), (("label", "up"),)), watch,
-        (Search(0),), [index], {1: watch}, ("and", (index,)),
+        (Search(0),), [index], {1: watch}, ("and", (index,)), *wrong_far_objects(schema),
     ]
+
+
+def wrong_far_objects(schema):
+    """Servers and what else tells trees to other places, alone and within other values."""
+    servers = cut_tree(schema, {}, {0: "a"})
+    writer = Writer("a", ("a",), schema)
+    return [servers["a"], {"b": servers["a"]}, Guide(servers), Row("a"), Copy(), [Copy()], writer, ("deed", writer), Shell(Directory(schema))]
 
 
 class Tests(unittest.TestCase):

@@ -95,6 +95,16 @@ INTERFACE = {
         "is_plan": "(schema, tree, value)", "cut_tree": "(schema, tree, plan)", "root_of": "(schema, tree, plan, number)",
     },
     "bailiwick.far.guides": {"Guide": "(servers)", "is_trace": "(schema, tree, plan, value)"},
+    "bailiwick.copy.rows": {
+        "difference": "(one, other)", "applied": "(entries, changes)", "is_cookie": "(value)", "Row": "(identity, entries=None)",
+    },
+    "bailiwick.copy.copies": {"Copy": "()"},
+    "bailiwick.many.letters": {
+        "is_letter": "(value)", "are_letters": "(value)", "stamp_of": "(letter)", "fold": "(schema, tree, letters)",
+        "horizon": "(names, letters)", "settled": "(names, letters)",
+    },
+    "bailiwick.many.writers": {"Writer": "(name, names, schema, tree=None)"},
+    "bailiwick.text.shell": {"Shell": "(directory)"},
 }
 CONSTANTS = {
     "bailiwick.tree.directory": {"MAX_PLACES": 1000},
@@ -108,6 +118,9 @@ CONSTANTS = {
     "bailiwick.place.rights": {"RIGHTS": ("add", "move", "remove", "see", "write")},
     "bailiwick.text.lines": {"WIDTH": 60},
     "bailiwick.far.holdings": {"MAX_SERVERS": 20},
+    "bailiwick.copy.rows": {"MAX_ROW": 1000},
+    "bailiwick.many.letters": {"MAX_WRITERS": 4, "MAX_MADE": 60, "MAX_COUNT": 10 ** 6},
+    "bailiwick.many.writers": {"MAX_LETTERS": 120},
 }
 METHODS = {
     ("bailiwick.rules.types", "Type"): ("name", "kind", "above", "is_single", "__eq__"),
@@ -126,10 +139,16 @@ METHODS = {
     ("bailiwick.ask.watches", "Watch"): ("search", "word", "told", "follow", "state", "twin"),
     ("bailiwick.far.holdings", "Server"): ("name", "above", "roots", "entries", "cuts", "glimpses", "ask"),
     ("bailiwick.far.guides", "Guide"): ("names", "ask", "place_of"),
+    ("bailiwick.copy.rows", "Row"): ("identity", "place", "first", "cookie", "tell", "cut", "messages", "entries"),
+    ("bailiwick.copy.copies", "Copy"): ("cookie", "is_open", "hear", "catch_up", "entries"),
+    ("bailiwick.many.writers", "Writer"): (
+        "name", "names", "letters", "tree", "fates", "horizon", "settled", "settled_tree", "make", "quiet", "hear",
+        "free_number", "twin", "__eq__"),
+    ("bailiwick.text.shell", "Shell"): ("who", "tell", "__call__", "__len__"),
 }
 # How many of the members of each class are properties; these stand first.
 PROPERTIES = {"Type": 4, "Class": 8, "Schema": 2, "Directory": 4, "Index": 1, "Search": 6, "Kept": 2, "Watch": 3,
-              "Server": 3, "Guide": 1}
+              "Server": 3, "Guide": 1, "Row": 4, "Copy": 2, "Writer": 8, "Shell": 1}
 BUILTINS = set(
     "len range enumerate zip min max sum abs sorted reversed int str bool list tuple dict set isinstance ord repr any all divmod "
     "Exception ValueError TypeError KeyError IndexError LookupError ArithmeticError OverflowError property classmethod "
@@ -348,12 +367,14 @@ class LanguageTests(unittest.TestCase):
 
 
 class ReadmeTests(unittest.TestCase):
-    """The example of README.md."""
+    """The examples of README.md."""
 
-    def test_example(self):
+    def test_examples(self):
         text = (PACKAGE.parent / "README.md").read_text()
-        code = re.search(r"```python\n(.*?)```", text, re.DOTALL).group(1)
-        told = []
-        exec(code, {"print": lambda *values: told.append(" ".join([str(each) for each in values]))})
-        comments = [line.split("# ", 1)[1] for line in code.splitlines() if "# " in line]
-        self.assertEqual(told, comments)
+        codes = re.findall(r"```python\n(.*?)```", text, re.DOTALL)
+        self.assertEqual(len(codes), 2)
+        for code in codes:
+            told = []
+            exec(code, {"print": lambda *values: told.append(" ".join([str(each) for each in values]))})
+            comments = [line.split("# ", 1)[1] for line in code.splitlines() if "# " in line]
+            self.assertEqual(told, comments)

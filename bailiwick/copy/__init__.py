@@ -1,0 +1,1 @@
+"""Rows of differences, and copies that catch up."""

@@ -1,0 +1,1 @@
+"""Writers that do units and tell them to one another by letters."""
