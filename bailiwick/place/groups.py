@@ -26,20 +26,25 @@ def _filter_of(text):
         return None
 
 
+def _asked_by(tree, group):
+    """The filters of a known group."""
+    asked = [_filter_of(form) for form in own_forms(tree[group], "chosen")]
+    return [each for each in asked if each is not None]
+
+
+def _is_chosen(schema, tree, group, asked, number):
+    """Whether the filters of a known group make an entry a member."""
+    grounds = [int(form) for form in own_forms(tree[group], "ground")]
+    way = upward_numbers(tree, number)
+    if is_group(schema, tree, number) or (grounds != [] and not any([ground in way for ground in grounds])):
+        return False
+    return any([known_value(schema, tree, each, number) == "true" for each in asked])
+
+
 def _known_chosen(schema, tree, group):
     """The numbers of the entries that the filters of a known group make members, ascending."""
-    asked = [_filter_of(form) for form in own_forms(tree[group], "chosen")]
-    asked = [each for each in asked if each is not None]
-    grounds = [int(form) for form in own_forms(tree[group], "ground")]
-    found = []
-    for number in sorted(tree):
-        way = upward_numbers(tree, number)
-        is_there = grounds == [] or any([ground in way for ground in grounds])
-        if not is_there or is_group(schema, tree, number):
-            continue
-        if any([known_value(schema, tree, each, number) == "true" for each in asked]):
-            found.append(number)
-    return found
+    asked = _asked_by(tree, group)
+    return [number for number in sorted(tree) if _is_chosen(schema, tree, group, asked, number)]
 
 
 def _linked(tree, group):
@@ -72,9 +77,25 @@ def known_members(schema, tree, group):
     return sorted({number for each in groups for number in _own_members(schema, tree, each)})
 
 
-def _leads_to(schema, tree, group, groups):
-    """Whether a known group is one of some groups, or links lead from it to one of them, and so on."""
-    return group in groups or any([each in groups for each in _known_inner(schema, tree, group)])
+def _does_name(schema, tree, group, number):
+    """Whether a known group names an entry, which is no group, as a member by itself, not by other groups."""
+    return number in _linked(tree, group) or _is_chosen(schema, tree, group, _asked_by(tree, group), number)
+
+
+def known_groups_of(schema, tree, number):
+    """The numbers of the groups of which an entry is a member, ascending."""
+    if is_group(schema, tree, number):
+        return []
+    groups = [each for each in sorted(tree) if is_group(schema, tree, each)]
+    found = {group: True for group in groups if _does_name(schema, tree, group, number)}
+    ahead = list(found)
+    while ahead != []:
+        lower = ahead.pop()
+        for group in groups:
+            if group not in found and lower in _linked(tree, group):
+                found[group] = True
+                ahead.append(group)
+    return sorted(found)
 
 
 def members(schema, tree, group):
@@ -102,9 +123,7 @@ def groups_of(schema, tree, number):
     """The numbers of the groups of which an entry is a member, ascending."""
     need_tree(schema, tree)
     need_number(tree, number)
-    groups = [each for each in sorted(tree) if is_group(schema, tree, each)]
-    having = [group for group in groups if number in _own_members(schema, tree, group)]
-    return tuple([group for group in groups if _leads_to(schema, tree, group, having)])
+    return tuple(known_groups_of(schema, tree, number))
 
 
 def inner(schema, tree, group):

@@ -3,7 +3,7 @@
 from bailiwick.base.words import is_word, need_word
 from bailiwick.errors import InvalidWord, UnknownNumber
 from bailiwick.place.areas import known_in_area
-from bailiwick.place.groups import is_group, known_members
+from bailiwick.place.groups import known_groups_of
 from bailiwick.tree.trees import is_of_class, need_number, need_place, need_tree, own_forms, upward_numbers
 
 RIGHTS = ("add", "move", "remove", "see", "write")
@@ -25,25 +25,21 @@ def _is_rule(schema, tree, number):
     return is_of_class(schema, tree[number], "rule")
 
 
-def _leads_to_somebody(schema, tree, rule, who):
-    """Whether a rule tells by its links that it holds for somebody who has an entry."""
-    whom = [int(form) for form in own_forms(tree[rule], "whom")]
-    if who in whom:
-        return True
-    if "yes" in own_forms(tree[rule], "below") and any([each in whom for each in upward_numbers(tree, who)]):
-        return True
-    groups = [each for each in whom if is_group(schema, tree, each)]
-    return any([who in known_members(schema, tree, group) for group in groups])
+def _groups_of(schema, tree, who):
+    """The groups of which somebody who is not the house is a member."""
+    return [] if who is None else known_groups_of(schema, tree, who)
 
 
-def _holds_everywhere(schema, tree, rule, who):
-    """Whether a rule holds for somebody who is not the house, wherever a right is asked."""
+def _holds_everywhere(tree, rule, who, groups):
+    """Whether a rule holds for somebody who is not the house, and is in some groups, wherever a right is asked."""
     words = own_forms(tree[rule], "who")
     if "anyone" in words:
         return True
     if who is None:
         return False
-    return "known" in words or _leads_to_somebody(schema, tree, rule, who)
+    below = upward_numbers(tree, who) if "yes" in own_forms(tree[rule], "below") else []
+    whom = [int(form) for form in own_forms(tree[rule], "whom")]
+    return "known" in words or any([each == who or each in groups or each in below for each in whom])
 
 
 def _holds_at_itself(tree, rule, who):
@@ -66,10 +62,11 @@ class Ruling:
 def _rulings_for(schema, tree, who):
     """The rules with a rank that hold for somebody who is not the house, everywhere or at its own entry."""
     found = []
+    groups = _groups_of(schema, tree, who)
     for rule in sorted(tree):
         if not _is_rule(schema, tree, rule) or own_forms(tree[rule], "rank") == []:
             continue
-        is_everywhere = _holds_everywhere(schema, tree, rule, who)
+        is_everywhere = _holds_everywhere(tree, rule, who, groups)
         if is_everywhere or _holds_at_itself(tree, rule, who):
             found.append(Ruling(rule, tree[rule], is_everywhere))
     return found
@@ -168,7 +165,9 @@ def does_hold(schema, tree, rule, who, number):
     need_place(tree, number)
     if who == 0:
         return False
-    return _holds_everywhere(schema, tree, rule, who) or (who == number and _holds_at_itself(tree, rule, who))
+    if who == number and _holds_at_itself(tree, rule, who):
+        return True
+    return _holds_everywhere(tree, rule, who, _groups_of(schema, tree, who))
 
 
 def granted_types(schema, tree, who, right, number):
