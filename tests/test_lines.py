@@ -496,6 +496,15 @@ class UnitTextTests(LineTests):
         for line in ("by: name= a", "put: name==a", "name=a ", "#", "# x"):
             self.assertEqual(self.refuses(ParseError, read_units, "remove: 3\n" + line + "\n").index, 1)
 
+    def test_very_long_numbers(self):
+        # Python itself turns no text of very many digits into an integer.
+        many = "7" * 5000
+        for line in ("remove: " + many, "raise: size " + many, "raise: size -" + many, "move: 3 " + many + " keep", "change: " + many, "size=" + many):
+            self.assertEqual(self.refuses(ParseError, read_units_lax, "remove: 3\n" + line + "\n").index, 1)
+            self.assertEqual(self.refuses(ParseError, read_units, "remove: 3\n" + plain_fold(line)).index, 1)
+        for line in ("entry: " + many + " 0", "entry: 8 " + many):
+            self.assertEqual(self.refuses(ParseError, read_tree_lax, self.schema, line + "\n").index, 0)
+
     def test_what_makes_no_units(self):
         # Each line has a form that can stand, but the whole makes no units: the number of the lines.
         for text in ("by: name=a\n", "class: a\n", "name=a\n", "put: a=b\n", "extras:\n", "set: a\n", "clear: a\n", "raise: a 5\n", "drop: a=b\n",

@@ -252,7 +252,7 @@ class MakeTests(WriterTests):
         self.assertEqual(self.ann.free_number(), 8)
         self.ann.make(0, (("remove", 4),))
         self.assertEqual(self.ann.free_number(), 8)
-        self.ann.hear(deed("bob", 1, 50, 0, (("remove", 77), add(8, 0, "q"), add(12, 0, "r"))))
+        self.ann.hear(deed("bob", 1, 50, 0, (("remove", 14), ("change", 16, ()), add(8, 0, "q"), add(12, 0, "r"))))
         self.assertEqual(self.ann.fates[(50, "bob")], ("fallen", 0, "unknown"))
         # 10 is in the first tree.
         self.assertEqual(self.ann.free_number(), 14)
@@ -434,6 +434,7 @@ class HearTests(WriterTests):
         told.make(0, (("remove", 5),))
         quieter.quiet()
         self.equals_itself_alone(ann, again, [self.bob, lone, empty, plain, told, quieter])
+        self.equals_itself_alone(empty, Writer("ann", NAMES, self.schema, {}), [plain, Writer("bob", NAMES, self.schema), ann])
         # The order in which letters were heard means nothing.
         one, two = deed("bob", 1, 4, 0, (("remove", 30),)), quiet("bob", 0, 2)
         ann.hear(one)

@@ -133,7 +133,8 @@ class Copy:
 
     def _has_there(self, number):
         """Whether it has an entry of which the opened row can tell that it is there."""
-        return number in self._entries and self._cookie is not None and self._opened[1] == self._cookie[0]
+        # What has entries has a cookie, too.
+        return number in self._entries and self._opened[1] == self._cookie[0]
 
     def _can_close(self, cookie):
         """Whether what is open can be closed with a cookie."""

@@ -57,16 +57,16 @@ def _can_stand(row, ahead, is_strict):
 class Sheet:
     """The lines of a text as they are when none is folded, up to the first one that cannot be a line at all.
 
-    `many` is how many lines stand in the text, `wrong` the place of that one, or None; `lines` are pairs of the
+    `many` is how many lines end in the text, `wrong` the place of that one, or None; `lines` are pairs of the
     place of the first line of a fold and the whole.
     """
 
     def __init__(self, text, is_strict):
         rows = text.split("\n")
         last = rows.pop()
-        self.many = len(rows) if last == "" else len(rows) + 1
+        self.many = len(rows)
         # A last line without a newline cannot stand.
-        self.wrong = None if last == "" else len(rows)
+        self.wrong = None if last == "" else self.many
         self.lines = []
         ahead = ""
         for at, row in enumerate(rows):
@@ -217,7 +217,7 @@ def _read_known_units(sheet, is_strict):
     """The units that the lines of a text tell."""
     rows = []
     for at, line in sheet.lines:
-        row = None if line == "" else read_order(line, is_strict)
+        row = read_order(line, is_strict)
         if row is None and line != "":
             raise ParseError(at)
         rows.append(row)

@@ -117,8 +117,8 @@ def read_order(line, is_strict):
     """What a line of a unit tells by its form alone; None if it has the form of none."""
     if line == "extras:":
         return ("extras",)
-    word, sign, rest = line.partition(": ")
-    if sign == "" or word not in READERS:
+    word, _, rest = line.partition(": ")
+    if word not in READERS:
         pair = read_value(line, is_strict)
         return None if pair is None else ("value", *pair)
     action = READERS[word]

@@ -28,15 +28,13 @@ def _told_text(signs, is_strict):
     """The text that stands behind a type and the sign of equality; None if none can."""
     is_coded = signs.startswith("=")
     text = _decoded(signs[1:]) if is_coded else signs
-    if text is None or not is_text(text):
+    if not is_text(text):
         return None
     return None if is_strict and _needs_code(text) != is_coded else text
 
 
 def read_value(line, is_strict):
     """The pair of the type and the text that a value line tells; None if it is none."""
-    word, sign, signs = line.partition("=")
-    if sign == "" or not is_word(word):
-        return None
-    text = _told_text(signs, is_strict)
+    word, _, signs = line.partition("=")
+    text = _told_text(signs, is_strict) if is_word(word) else None
     return None if text is None else (word, text)
