@@ -140,8 +140,8 @@ def plain_needed(schema, tree, deed):
         for part in deed[2]:
             if part[0] != "extras":
                 write(deed[1], part[1])
-            elif deed[1] in tree:
-                classes = set(tree[deed[1]][2])
+            else:
+                classes = set(tree[deed[1]][2]) if deed[1] in tree else set()
                 extras = {name for name in classes if schema.family_of(name) == "extra"}
                 turned = tuple(classes ^ ((classes - extras) | set(part[1])))
                 for word in sorted({*schema.must_bear(turned), *schema.may_bear(turned)}):

@@ -202,7 +202,10 @@ class GuideTests(GuidedTests):
             self.refuses(InvalidOperation, Guide, value)
         self.assertEqual(Guide({"t": t, "r": r, "s": s}).names, ("r", "s", "t"))
         # A server above that lacks, though no cut names it.
-        self.refuses(InvalidOperation, Guide, {"t": t, "s": s})
+        servers = cut_tree(self.schema, self.tree, {0: "r", 2: "s", 20: "t"})
+        self.refuses(InvalidOperation, Guide, {"t": servers["t"]})
+        self.refuses(InvalidOperation, Guide, {"t": servers["t"], "s": servers["s"]})
+        self.assertEqual(Guide(servers).names, ("r", "s", "t"))
         # A copy is kept.
         guide = Guide(servers)
         servers.clear()

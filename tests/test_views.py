@@ -269,7 +269,8 @@ class NeededTests(ViewTests):
         # A class that is not known, or an entry that is not there: what hangs on it lacks.
         self.needs(("change", 3, (("extras", ("nowhere",)),)))
         self.needs(("change", 3, (("extras", ("nowhere", "star")),)), (3, "mail"))
-        self.needs(("change", 99, (("extras", ("star",)), ("put", "mark", "4"))), (99, "mark"))
+        self.needs(("change", 99, (("extras", ("star",)), ("put", "mark", "4"))), (99, "mail"), (99, "mark"))
+        self.needs(("change", 99, (("extras", ()), ("extras", ("nowhere",)))))
         # A shape that is no class of the entry would come; its own one stays.
         self.needs(("change", 6, (("extras", ("human",)),)), (6, "boss"), (6, "cn"), (6, "mail"), (6, "mark"), (6, "nick"), (6, "pal"))
         self.needs(("change", 6, (("extras", ("unit",)),)))

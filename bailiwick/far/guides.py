@@ -14,10 +14,9 @@ def _names_told(server):
 
 def _are_servers(value):
     """Whether the value is a dict from words to servers with these names, in which no server lacks."""
-    if not isinstance(value, dict):
+    if not isinstance(value, dict) or not all([isinstance(value[name], Server) for name in value]):
         return False
-    if not all([is_word(name) and isinstance(value[name], Server) for name in value]):
-        return False
+    # The names of servers are words.
     if any([value[name].name != name for name in value]):
         return False
     return all([told in value for name in value for told in _names_told(value[name])])
@@ -77,10 +76,10 @@ def _with_scope(search, scope):
 
 
 def _is_step(value):
-    """Whether the value is a triple (server, name, scope)."""
+    """Whether the value is a triple (server, name, scope); whether there is such a server is not asked."""
     if not isinstance(value, tuple) or len(value) != 3:
         return False
-    return is_word(value[0]) and are_pairs(value[1]) and value[2] in SCOPES
+    return are_pairs(value[1]) and value[2] in SCOPES
 
 
 def is_trace(schema, tree, plan, value):

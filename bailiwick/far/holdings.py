@@ -61,8 +61,7 @@ class Holding:
     def __init__(self, tree, plan, root):
         self.root = root
         self.held = {each: tree[each] for each in sorted(tree) if _known_root(tree, plan, each) == root}
-        ways = [each for each in upward_numbers(tree, root) if each != root]
-        self.uppers = {each: _glimpse(tree[each]) for each in sorted(ways)}
+        self.uppers = {each: _glimpse(tree[each]) for each in upward_numbers(tree, root)[1:]}
         self.whole = {**self.uppers, **self.held}
         self.branches = {}
         for cut in sorted(plan):

@@ -42,9 +42,9 @@ def _holds_everywhere(tree, rule, who, groups):
     return "known" in words or any([each == who or each in groups or each in below for each in whom])
 
 
-def _holds_at_itself(tree, rule, who):
-    """Whether a rule holds for somebody where a right is asked at its own entry."""
-    return who is not None and "self" in own_forms(tree[rule], "who")
+def _holds_at_itself(tree, rule):
+    """Whether a rule holds for everybody where a right is asked at its own entry."""
+    return "self" in own_forms(tree[rule], "who")
 
 
 class Ruling:
@@ -67,7 +67,7 @@ def _rulings_for(schema, tree, who):
         if not _is_rule(schema, tree, rule) or own_forms(tree[rule], "rank") == []:
             continue
         is_everywhere = _holds_everywhere(tree, rule, who, groups)
-        if is_everywhere or _holds_at_itself(tree, rule, who):
+        if is_everywhere or _holds_at_itself(tree, rule):
             found.append(Ruling(rule, tree[rule], is_everywhere))
     return found
 
@@ -165,7 +165,7 @@ def does_hold(schema, tree, rule, who, number):
     need_place(tree, number)
     if who == 0:
         return False
-    if who == number and _holds_at_itself(tree, rule, who):
+    if who == number and _holds_at_itself(tree, rule):
         return True
     return _holds_everywhere(tree, rule, who, _groups_of(schema, tree, who))
 

@@ -64,9 +64,7 @@ def _writing(number, words):
 
 def _extra_words(schema, tree, deed, extras):
     """The types that the classes which come or go by a part with extras must and may bear, ascending."""
-    if deed[1] not in tree:
-        return ()
-    classes = tree[deed[1]][2]
+    classes = tree[deed[1]][2] if deed[1] in tree else ()
     behind = [name for name in classes if schema.family_of(name) != "extra"] + list(extras)
     turned = tuple(sorted(set(classes) ^ set(behind)))
     return names_row(schema.must_bear(turned) + schema.may_bear(turned))
@@ -141,8 +139,8 @@ def _linked_numbers(schema, deed):
     """The numbers to which a deed puts links, as far as their texts fit."""
     pairs = [(word, text) for word, text in _put_pairs(deed) if schema.kind_of(word) == "link"]
     numbers = [int(text) for word, text in pairs if asked_form(schema, word, text) is not None]
-    # An entry that is added can have links to itself.
-    return [number for number in numbers if deed[0] != "add" or number != deed[1]]
+    # The own number is looked at ahead of links, but for an add, where it can have no entry yet.
+    return [number for number in numbers if number != deed[1]]
 
 
 def _named_numbers(schema, deed):

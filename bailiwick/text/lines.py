@@ -17,7 +17,7 @@ def _folded(line):
     return [line[:WIDTH]] + [" " + line[at:at + WIDTH - 1] for at in further]
 
 
-def _record_text(lines):
+def _text_of_record(lines):
     """The text of a record, from its lines that are not folded."""
     return "".join([row + "\n" for line in lines for row in _folded(line)])
 
@@ -29,7 +29,7 @@ def known_record(number, entry):
     for word, form, text in values:
         star = "*" if (word, form) == naming else ""
         lines.append(star + value_line(word, text))
-    return _record_text(lines)
+    return _text_of_record(lines)
 
 
 def tree_text(schema, tree):
@@ -42,7 +42,7 @@ def units_text(units):
     """The strict text of some units."""
     if not isinstance(units, tuple) or not all([is_unit(unit) for unit in units]):
         raise InvalidDeed(units)
-    return "\n".join([_record_text(unit_lines(unit)) for unit in units])
+    return "\n".join([_text_of_record(unit_lines(unit)) for unit in units])
 
 
 def _can_stand(row, ahead, is_strict):
