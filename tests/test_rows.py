@@ -6,7 +6,7 @@ from bailiwick.copy import rows
 from bailiwick.copy.rows import Row, applied, difference, is_cookie
 from bailiwick.errors import InvalidNumber, InvalidOperation, InvalidTree, InvalidWord, TooMany
 from tests.makers import asking_schema, changed_tree, some_tree
-from tests.samples import Tests, entry, is_empty_dict, wrong_values
+from tests.samples import Tests, entry, is_empty_dict
 from tests.test_trees import full_entry, wrong_entries
 from tests.test_types import is_some_word
 
