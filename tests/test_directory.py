@@ -196,6 +196,27 @@ class DirectoryTests(Tests):
                 self.assertTrue(is_right(self.schema, directory.tree))
             self.assertEqual([directory.tree_at(each) for each in range(len(trees))], trees)
 
+    def test_since(self):
+        # An entry that was gone for a while is there since another step, whatever happened besides.
+        self.assertEqual(self.directory.since, {1: 0, 2: 0, 5: 0, 10: 0, 20: 0, 30: 0})
+        self.directory.do((("change", 1, ()),))
+        self.directory.do((("remove", 5), add(7, 0, "a")))
+        self.assertEqual(self.directory.since, {1: 0, 2: 0, 7: 2, 10: 0, 20: 0, 30: 0})
+        self.directory.do((("remove", 5),))
+        self.directory.undo()
+        self.assertEqual(self.directory.since, {1: 0, 2: 0, 5: 3, 10: 0, 20: 0, 30: 0})
+        self.directory.redo()
+        self.directory.undo()
+        self.directory.undo()
+        self.assertEqual(self.directory.since, {1: 0, 2: 0, 5: 5, 10: 0, 20: 0, 30: 0})
+        before = self.directory.since
+        self.stays(Refused, self.directory.undo)
+        self.directory.do((("remove", 77),))
+        self.stays(InvalidDeed, self.directory.do, ())
+        self.directory.since.clear()
+        self.assertEqual(self.directory.since, before)
+        self.assertEqual((Directory(self.schema).since, list(before)), ({}, sorted(before)))
+
     def test_nothing_gives_access(self):
         tree = sample_tree()
         directory = Directory(self.schema, tree)

@@ -248,6 +248,98 @@ class ShellTests(Tests):
         self.assertIsNone(other.who)
         self.assertEqual(other("find tree 0 (cn=bob)"), "4")
 
+    def test_the_entry_comes_back_between_two_lines(self):
+        # Nothing is asked of the shell while its entry is gone.
+        ways = [
+            lambda: (self.directory.do((("remove", 12),)), self.directory.undo()),
+            lambda: (self.directory.undo(), self.directory.redo()),
+            lambda: (self.directory.undo(), self.directory.undo(), self.directory.redo(), self.directory.redo()),
+            lambda: [Shell(self.directory)(line) for line in ("remove 12", "undo")],
+            lambda: (self.directory.do((("remove", 12), ("remove", 4))), self.directory.undo(), self.directory.redo(), self.directory.undo()),
+        ]
+        self.tells_each([("put 4 mail=x", "done"), ("add 12 2 human cn=dan", "done")])
+        for way in ways:
+            for line in ("name 12", "as 77", "as", "undo", "put 12 mail=x"):
+                self.tells("as 12", "done")
+                way()
+                self.assertIn(12, self.directory.tree)
+                self.shell(line)
+                self.assertIsNone(self.shell.who)
+                self.leaves("undo", "redo", answer=DENIED)
+                self.leaves("as 77", answer=ABSENT)
+                if line.startswith("put"):
+                    self.assertEqual(self.directory.undo(), 2)
+                self.assertIsNone(self.shell.who)
+                self.tells("as 12", "done")
+                self.assertEqual(self.shell.who, 12)
+                self.tells("as 12", "done")
+                self.assertEqual(self.shell.who, 12)
+
+    def test_an_entry_that_stays_is_asked_for_still(self):
+        self.tells("as 4", "done")
+        self.directory.do((("move", 4, 2, ("cn", "b"), False), ("change", 4, (("put", "mail", "x"),))))
+        self.directory.do((("move", 3, 1, ("cn", "c"), False),))
+        self.directory.do((("remove", 5),))
+        self.assertEqual(self.shell.who, 4)
+        for at in range(3):
+            self.directory.undo()
+            self.assertEqual(self.shell.who, 4)
+        self.directory.redo()
+        self.assertEqual(self.directory.do((("remove", 4), ("remove", 77)))[0], "fallen")
+        self.assertEqual(self.shell.who, 4)
+        # Neither the house nor nobody known is an entry that could go.
+        for line, who in (("as 0", 0), ("as nobody", None)):
+            self.tells(line, "done")
+            self.directory.do((("remove", 4),))
+            self.assertEqual(self.shell.who, who)
+            self.directory.undo()
+            self.assertEqual(self.shell.who, who)
+
+    def test_the_rights_of_nobody_known_hold_then(self):
+        known = ("who", "known")
+        tree = {1: entry(0, "label", "a", ("group",)), 2: entry(0, "label", "b", ("group",)), 3: grants(0, "r", 1, ("may", "see"), known)}
+        directory = Directory(Schema((), ()), tree)
+        one, two = Shell(directory), Shell(directory)
+        self.assertEqual([one("as 1"), two("as 2"), one("find tree 0 (label=*)"), two("can see 0")], ["done", "done", "1 2 3", "yes"])
+        directory.do((("remove", 1),))
+        directory.undo()
+        self.assertEqual([one("find tree 0 (label=*)"), one("can see 0"), one("name 1"), one("show 2")], ["none", "no", ABSENT, ABSENT])
+        self.assertEqual([two("find tree 0 (label=*)"), two("can see 0"), two.who, one.who], ["1 2 3", "yes", 2, None])
+        self.assertEqual([one("number label=a"), one("as 1"), one("number label=a")], ["none", "done", "1"])
+
+    def test_who_over_many_histories(self):
+        # Against what is told of each step of a directory, one after another, by looking at its tree each time.
+        gone = 0
+        for seed in range(20):
+            rng = random.Random(f"who {seed}")
+            directory = Directory(self.schema, shell_tree())
+            shells, plain = [Shell(directory) for _ in range(3)], [0, 0, 0]
+            for at in range(150):
+                way, one = rng.randrange(8), rng.randrange(3)
+                number = rng.choice((3, 4, 5, 7, 8, 60, rng.randrange(100, 100 + at + 1)))
+                if way == 0:
+                    who = rng.choice((number, number, number, 0, None))
+                    answer = shells[one]("as " + ("nobody" if who is None else str(who)))
+                    self.assertEqual(answer, "done" if who in (0, None) or who in directory.tree else ABSENT)
+                    plain[one] = who if answer == "done" else plain[one]
+                elif way in (1, 2):
+                    directory.do((("remove", number),))
+                elif way == 3:
+                    directory.do((("add", 100 + at, rng.choice((1, 2)), ("cn", f"n{at}"), ("unit",), (("cn", f"n{at}"),)),))
+                elif way == 4:
+                    shells[one](f"remove {number}")
+                elif way in (5, 6) and directory.place > 0:
+                    directory.undo()
+                elif way == 7 and shells[one]("redo").startswith("error") and directory.place < 50:
+                    shells[one](f"name {number}")
+                # None of the shells is asked here, but for some times.
+                gone += len([who for who in plain if who not in (0, None) and who not in directory.tree])
+                plain = [who if who == 0 or who in directory.tree else None for who in plain]
+                if rng.randrange(3) == 0:
+                    self.assertEqual([shell.who for shell in shells], plain)
+            self.assertEqual([shell.who for shell in shells], plain)
+        self.assertGreater(gone, 20)
+
     def test_it_does_not_copy_the_directory(self):
         self.directory.do((("remove", 5),))
         self.tells("name 5", ABSENT)

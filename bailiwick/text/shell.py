@@ -5,7 +5,7 @@ from bailiwick.base.names import name_text
 from bailiwick.base.words import are_signs
 from bailiwick.errors import InvalidOperation, InvalidText, Refused
 from bailiwick.place.groups import is_group, known_members
-from bailiwick.place.rights import Asker, present
+from bailiwick.place.rights import Asker
 from bailiwick.place.views import known_done_by, known_view
 from bailiwick.text.commands import Misfit, read_command
 from bailiwick.text.lines import known_record
@@ -73,19 +73,24 @@ def _deed_of(word, told):
 
 
 class Shell:
-    """A shell: a directory, whom it is for, and the lines that it was told."""
+    """A shell: a directory, whom it is for, and the lines that it was told.
+
+    `_asker` is whom the last line `as` told; `_since` tells since when its entry was there then, None without one.
+    """
 
     def __init__(self, directory):
         if not isinstance(directory, Directory):
             raise InvalidOperation(directory)
         self._directory = directory
         self._asker = 0
+        self._since = None
         self._lines = []
 
     @property
     def who(self):
         """Whom the shell is for."""
-        return present(self._directory.tree, self._asker)
+        # Once its entry is gone, it is for nobody known, whether the entry comes back or not.
+        return self._asker if self._directory.since.get(self._asker) == self._since else None
 
     def __len__(self):
         return len(self._lines)
@@ -97,10 +102,7 @@ class Shell:
         """Does a line, and returns the answer."""
         if not are_signs(line, MOST_SIGNS):
             raise InvalidText(line)
-        # Once its entry is gone, it is for nobody known, whether the entry comes back or not.
-        self._asker = self.who
         answer = self._answer(line)
-        self._asker = self.who
         self._lines.append(line)
         return answer
 
@@ -115,7 +117,7 @@ class Shell:
         if word in ("undo", "redo"):
             return self._go(word)
         schema = self._directory.schema
-        seen = known_view(schema, self._directory.tree, self._asker)
+        seen = known_view(schema, self._directory.tree, self.who)
         if any([number not in seen for number in numbers]):
             return ABSENT
         if word in DEEDS:
@@ -127,14 +129,16 @@ class Shell:
 
     def _turn(self, who):
         """Turns the shell to somebody else."""
-        if who is not None and who != 0 and who not in self._directory.tree:
+        since = self._directory.since
+        if who is not None and who != 0 and who not in since:
             return ABSENT
         self._asker = who
+        self._since = since.get(who)
         return "done"
 
     def _go(self, word):
         """Goes back or ahead in the history of the directory."""
-        if self._asker != 0:
+        if self.who != 0:
             return DENIED
         try:
             place = self._directory.undo() if word == "undo" else self._directory.redo()
@@ -145,7 +149,7 @@ class Shell:
     def _do(self, deed):
         """Does a deed as a unit of its own."""
         unit = (deed,)
-        told = known_done_by(self._directory.schema, self._directory.tree, self._asker, unit, self._directory.used)
+        told = known_done_by(self._directory.schema, self._directory.tree, self.who, unit, self._directory.used)
         if told[0] == "fallen":
             return "fallen " + told[2] + " " + str(told[3])
         self._directory.do(unit)
@@ -153,5 +157,5 @@ class Shell:
 
     def _can(self, right, number, word=None):
         """Whether a right is granted."""
-        asker = Asker(self._directory.schema, self._directory.tree, self._asker)
+        asker = Asker(self._directory.schema, self._directory.tree, self.who)
         return "yes" if asker.is_let(right, number, word) else "no"

@@ -11,7 +11,8 @@ MAX_PLACES = 1000
 class Directory:
     """A tree, and all trees of its history.
 
-    `_trees` and `_units` reach up to the last place that can be redone.
+    `_trees` and `_units` reach up to the last place that can be redone. `_steps` counts what was done, undone
+    and redone, so that it never comes back to where it was.
     """
 
     def __init__(self, schema, tree=None):
@@ -24,6 +25,8 @@ class Directory:
         self._units = []
         self._place = 0
         self._used = {number: True for number in first}
+        self._steps = 0
+        self._since = {number: 0 for number in self._trees[0]}
 
     @property
     def schema(self):
@@ -45,6 +48,11 @@ class Directory:
         """The numbers that any tree of the directory ever had, ascending."""
         return tuple(sorted(self._used))
 
+    @property
+    def since(self):
+        """The dict from the numbers of the entries now to the steps since which each is there without a break."""
+        return dict(self._since)
+
     def do(self, unit):
         """Does a unit: tells its place, or how it falls."""
         need_unit(unit)
@@ -57,24 +65,29 @@ class Directory:
         del self._units[self._place:]
         self._trees.append(told[1])
         self._units.append(unit)
-        self._place += 1
         for number in told[1]:
             self._used[number] = True
-        return ("done", self._place)
+        return ("done", self._step_to(self._place + 1))
 
     def undo(self):
         """Goes back to the tree ahead of the last unit, and returns the place."""
         if self._place == 0:
             raise Refused("undo")
-        self._place -= 1
-        return self._place
+        return self._step_to(self._place - 1)
 
     def redo(self):
         """Goes ahead again to the tree behind the last unit that was undone, and returns the place."""
         if self._place == len(self._units):
             raise Refused("redo")
-        self._place += 1
-        return self._place
+        return self._step_to(self._place + 1)
+
+    def _step_to(self, place):
+        """Makes the tree of a place the tree now, and returns the place."""
+        self._steps += 1
+        # An entry that comes back is there since now, so that who saw it before can tell that it was gone.
+        self._since = {number: self._since.get(number, self._steps) for number in self._trees[place]}
+        self._place = place
+        return place
 
     def tree_at(self, place):
         """The tree at a place."""
